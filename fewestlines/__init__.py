@@ -1,0 +1,1 @@
+"""Fewestlines: ordered data under the fewest straight lines."""
