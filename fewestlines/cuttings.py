@@ -1,0 +1,75 @@
+"""Cuttings of points into the fewest pieces over which a line fits, and their judge."""
+
+from fewestlines.fits import plain_fits, three_fit
+from fewestlines.lines import line_fits
+from fewestlines.strips import longest_piece
+
+
+class Cutting:
+    """Pieces (start, line), and for each piece but the last a reason of three indexes (point 3.1)."""
+
+    def __init__(self, pieces, reasons):
+        self.pieces = list(pieces)
+        self.reasons = list(reasons)
+
+
+def cut(points, error):
+    """The cutting that takes as many points as fit into each piece in turn (point 3.4)."""
+    pieces = []
+    reasons = []
+    start = 0
+    while start < len(points):
+        end, line, why = longest_piece(points, start, error)
+        pieces.append((start, line))
+        if why is not None:
+            reasons.append(why)
+        start = end
+    return Cutting(pieces, reasons)
+
+
+def judge(points, error, cutting):
+    """Whether the cutting is accepted: no cutting of the points has fewer pieces (point 3.2)."""
+    starts = [start for start, _ in cutting.pieces]
+    if not starts_stand(starts, len(points)):
+        return False
+    if len(cutting.reasons) != max(0, len(starts) - 1):
+        return False
+    ends = starts[1:] + [len(points)]
+    for (start, line), end in zip(cutting.pieces, ends):
+        if line[2] < 1 or not line_fits(line, points[start:end], error):
+            return False
+    for why, start, end in zip(cutting.reasons, starts, ends):
+        if not reason_stands(points, error, why, start, end):
+            return False
+    return True
+
+
+def starts_stand(starts, length):
+    """Whether the starts are strictly ascending indexes from 0 on; none only if there is nothing to cut."""
+    if not starts or length == 0:
+        return not starts and length == 0
+    for one, other in zip(starts, starts[1:]):
+        if one >= other:
+            return False
+    return starts[0] == 0 and starts[-1] < length
+
+
+def reason_stands(points, error, why, start, end):
+    """Whether the reason has three ascending indexes from start to end of points that do not fit."""
+    first, middle, last = why
+    if not start <= first < middle < last <= end:
+        return False
+    return not three_fit(points[first], points[middle], points[last], error)
+
+
+def least_count(points, error):
+    """The least number of pieces over all cuttings into pieces that fit, by trying all cuts (point 3.5)."""
+    least = [0]
+    for end in range(1, len(points) + 1):
+        # A last piece of one point always fits, so there is a cutting.
+        best = least[end - 1] + 1
+        for start in range(end - 1):
+            if least[start] + 1 < best and plain_fits(points[start:end], error):
+                best = least[start] + 1
+        least.append(best)
+    return least[len(points)]

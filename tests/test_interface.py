@@ -1,0 +1,76 @@
+"""The interface: each name stands in its file, with its arguments, methods and fields."""
+
+import ast
+import unittest
+from pathlib import Path
+
+from fewestlines.cuttings import Cutting
+from fewestlines.hulls import Fitter
+from fewestlines.index import Index
+from fewestlines.store import Store
+
+PACKAGE = Path(__file__).resolve().parent.parent / "fewestlines"
+
+FUNCTIONS = {
+    "lines": {"reduced": "line", "floor_at": "line place", "ceiling_at": "line place",
+              "is_near": "line point error", "line_fits": "line points error"},
+    "fits": {"three_fit": "one two three error", "plain_fits": "points error",
+             "slope_range": "points error", "fits": "points error",
+             "fitting_line": "points error", "reason": "points error"},
+    "cuttings": {"cut": "points error", "judge": "points error cutting",
+                 "least_count": "points error"},
+    "least": {"least_error": "points pieces", "staircase": "points"},
+}
+
+CLASSES = {
+    "errors": {"LinesError": {}, "InvalidPaper": {"__init__": "line"}},
+    "hulls": {"Fitter": {"__init__": "error", "add": "point", "line": ""}},
+    "cuttings": {"Cutting": {"__init__": "pieces reasons"}},
+    "index": {"Index": {"__init__": "stored error upper", "level_keys": "", "pieces": "",
+                        "look_up": "x", "rank": "x", "has": "x", "count": "a b",
+                        "at_most": "x", "at_least": "x", "key_at": "index"}},
+    "store": {"Store": {"__init__": "capacity error", "put": "key value", "remove": "key",
+                        "get": "key", "contents": "", "between": "a b", "run_sizes": "",
+                        "buffered": ""}},
+}
+
+
+def tree_of(module):
+    """The syntax tree of a file of the package."""
+    return ast.parse((PACKAGE / f"{module}.py").read_text())
+
+
+def arguments(function):
+    """The names of the arguments, without that of a method's own object."""
+    return [name.arg for name in function.args.args if name.arg != "self"]
+
+
+class Interface(unittest.TestCase):
+    def test_functions_are_defined_in_their_files(self):
+        for module, functions in FUNCTIONS.items():
+            defined = {node.name: arguments(node) for node in tree_of(module).body
+                       if isinstance(node, ast.FunctionDef)}
+            for name, wanted in functions.items():
+                self.assertEqual(defined.get(name), wanted.split(), f"{module}.{name}")
+
+    def test_methods_are_defined_in_their_classes(self):
+        for module, classes in CLASSES.items():
+            defined = {node.name: node for node in tree_of(module).body
+                       if isinstance(node, ast.ClassDef)}
+            for name, methods in classes.items():
+                found = {node.name: arguments(node) for node in defined[name].body
+                         if isinstance(node, ast.FunctionDef)}
+                for method, wanted in methods.items():
+                    self.assertEqual(found.get(method), wanted.split(), f"{name}.{method}")
+
+    def test_fields_are_set_when_an_object_is_made(self):
+        self.assertEqual(Fitter(error=2).count, 0)
+        cutting = Cutting(pieces=[(0, (0, 0, 1))], reasons=[])
+        self.assertEqual((cutting.pieces, cutting.reasons), ([(0, (0, 0, 1))], []))
+        self.assertEqual(Index(stored=[3], error=0, upper=1).stored, [3])
+        store = Store(capacity=4, error=1)
+        self.assertEqual((store.capacity, store.error, store.moves, store.edits), (4, 1, 0, 0))
+
+
+if __name__ == "__main__":
+    unittest.main()
