@@ -136,6 +136,8 @@ class Judging(unittest.TestCase):
             points = [(k, 0) for k in range(length)]
             for start in (length, length + 1, BIG):
                 self.assertIs(judged([(0, level), (start, level)], [(0, 1, start)], points), False)
+                pieces = [(0, level), (start, level), (1, level)]
+                self.assertIs(judged(pieces, [(0, 1, start), (0, 1, start)], points), False)
 
     def test_first_start_that_is_not_zero(self):
         points = [(0, 50)] + [(k + 1, height) for k, (_, height) in enumerate(POINTS)]
