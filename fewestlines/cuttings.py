@@ -15,33 +15,53 @@ class Cutting:
 
 def cut(points, error):
     """The cutting that takes as many points as fit into each piece in turn (point 3.4)."""
+    pieces, reasons = taken_in_turn(lambda start: longest_piece(points, start, error), len(points))
+    return Cutting(pieces, reasons)
+
+
+def taken_in_turn(longest, length):
+    """The pieces and reasons of the longest pieces of a list of the length, one after another.
+
+    longest(start) answers a tuple: the index behind the longest piece from
+    the start on, what stands in the piece beside its start, and the reason
+    why it is not longer, or None if it reaches to the end.
+    """
     pieces = []
     reasons = []
     start = 0
-    while start < len(points):
-        end, line, why = longest_piece(points, start, error)
-        pieces.append((start, line))
+    while start < length:
+        end, shape, why = longest(start)
+        pieces.append((start, shape))
         if why is not None:
             reasons.append(why)
         start = end
-    return Cutting(pieces, reasons)
+    return pieces, reasons
 
 
 def judge(points, error, cutting):
     """Whether the cutting is accepted: no cutting of the points has fewer pieces (point 3.2)."""
-    starts = [start for start, _ in cutting.pieces]
-    if not starts_stand(starts, len(points)):
+    if not frame_stands(cutting.pieces, cutting.reasons, len(points)):
         return False
-    if len(cutting.reasons) != max(0, len(starts) - 1):
-        return False
-    ends = starts[1:] + [len(points)]
+    ends = ends_of(cutting.pieces, len(points))
     for (start, line), end in zip(cutting.pieces, ends):
         if line[2] < 1 or not line_fits(line, points[start:end], error):
             return False
-    for why, start, end in zip(cutting.reasons, starts, ends):
+    for why, (start, _), end in zip(cutting.reasons, cutting.pieces, ends):
         if not reason_stands(points, error, why, start, end):
             return False
     return True
+
+
+def frame_stands(pieces, reasons, length):
+    """Whether the starts of the pieces are right, and the number of reasons, for a list of the length."""
+    if not starts_stand([piece[0] for piece in pieces], length):
+        return False
+    return len(reasons) == max(0, len(pieces) - 1)
+
+
+def ends_of(pieces, length):
+    """The index behind each piece of a list of the length."""
+    return [piece[0] for piece in pieces[1:]] + [length]
 
 
 def starts_stand(starts, length):

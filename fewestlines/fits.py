@@ -2,7 +2,7 @@
 
 from math import gcd
 
-from fewestlines.chains import put_behind, steepest_from
+from fewestlines.bundles import LeastSlope
 from fewestlines.strips import longest_piece
 
 
@@ -34,19 +34,13 @@ def slope_range(points, error):
 
 def greatest_lower_bound(points, error):
     """The greatest (v - y - 2 * error) / (u - x) of all pairs of points, reduced."""
-    place, height = points[0]
-    chain = [(place, height, 0)]
-    best = None
-    for index in range(1, len(points)):
-        place, height = points[index]
-        lowered = height - 2 * error
-        back, low, _ = steepest_from(chain, (place, lowered))
-        rise, run = lowered - low, place - back
-        if best is None or rise * best[1] > best[0] * run:
-            best = (rise, run)
-        put_behind(chain, (place, height, index), -1)
-    divisor = gcd(best[0], best[1])
-    return best[0] // divisor, best[1] // divisor
+    least = LeastSlope()
+    for index, (place, height) in enumerate(points):
+        bound = least.bound_with((place, height - 2 * error, index))
+        least.take((place, height, index), bound)
+    rise, run, _, _ = least.bound
+    divisor = gcd(rise, run)
+    return rise // divisor, run // divisor
 
 
 def fits(points, error):

@@ -4,7 +4,8 @@ import random
 import unittest
 
 from fewestlines.cuttings import Cutting, cut, judge, least_count
-from samples import BIG, errors_for, greedy_starts, line_is_within, point_lists, scattered
+from samples import (BIG, errors_for, fewest_pieces, greedy_starts, line_is_within, pairs_fit,
+                     point_lists, scattered, with_item)
 
 # For the error 0 the pieces of these points are those from 0, 3 and 6 on.
 POINTS = [(0, 0), (1, 1), (2, 2), (3, 10), (4, 12), (5, 14), (6, 0), (7, 0)]
@@ -15,22 +16,6 @@ REASONS = [(1, 2, 3), (4, 5, 6)]
 def judged(pieces, reasons, points=POINTS, error=0):
     """The judge's answer to a cutting of the points."""
     return judge(points, error, Cutting(pieces, reasons))
-
-
-def with_item(rows, at, row):
-    """The rows with another one at the index."""
-    return rows[:at] + [row] + rows[at + 1:]
-
-
-def all_cuts(points, error):
-    """The least number of pieces, by each set of starts."""
-    best = len(points)
-    for chosen in range(2 ** max(0, len(points) - 1)):
-        starts = [0] + [k + 1 for k in range(len(points) - 1) if chosen >> k & 1]
-        ends = starts[1:] + [len(points)]
-        if all(len(greedy_starts(points[a:b], error)) == 1 for a, b in zip(starts, ends)):
-            best = min(best, len(starts))
-    return best
 
 
 class Cuttings(unittest.TestCase):
@@ -222,7 +207,8 @@ class LeastCounts(unittest.TestCase):
             for spread in (1, 3, 20):
                 points = scattered(draw, size, 3, spread)
                 for error in (0, 1, 4):
-                    self.assertEqual(least_count(points, error), all_cuts(points, error))
+                    fewest = fewest_pieces(points, lambda piece: pairs_fit(piece, error))
+                    self.assertEqual(least_count(points, error), fewest)
 
     def test_forty_points(self):
         draw = random.Random(33)

@@ -4,9 +4,12 @@ import ast
 import unittest
 from pathlib import Path
 
+from fewestlines.coded import Coded
 from fewestlines.cuttings import Cutting
+from fewestlines.flat import FlatCutting
 from fewestlines.hulls import Fitter
 from fewestlines.index import Index
+from fewestlines.spans import SpanCutting
 from fewestlines.store import Store
 
 PACKAGE = Path(__file__).resolve().parent.parent / "fewestlines"
@@ -20,6 +23,12 @@ FUNCTIONS = {
     "cuttings": {"cut": "points error", "judge": "points error cutting",
                  "least_count": "points error"},
     "least": {"least_error": "points pieces", "staircase": "points"},
+    "coded": {"width": "error", "error_of_width": "width", "room": "values error header",
+              "best_error": "values header"},
+    "written": {"write_cutting": "cutting", "read_cutting": "text", "audit": "points error text"},
+    "flat": {"flat_cut": "values error", "judge_flat": "values error cutting"},
+    "spans": {"three_meet": "one two three", "meets": "line span", "span_cut": "spans",
+              "judge_spans": "spans cutting"},
 }
 
 CLASSES = {
@@ -32,6 +41,9 @@ CLASSES = {
     "store": {"Store": {"__init__": "capacity error", "put": "key value", "remove": "key",
                         "get": "key", "contents": "", "between": "a b", "run_sizes": "",
                         "buffered": ""}},
+    "coded": {"Coded": {"__init__": "values error", "value_at": "index", "decoded": ""}},
+    "flat": {"FlatCutting": {"__init__": "pieces reasons"}},
+    "spans": {"SpanCutting": {"__init__": "pieces reasons"}},
 }
 
 
@@ -70,6 +82,12 @@ class Interface(unittest.TestCase):
         self.assertEqual(Index(stored=[3], error=0, upper=1).stored, [3])
         store = Store(capacity=4, error=1)
         self.assertEqual((store.capacity, store.error, store.moves, store.edits), (4, 1, 0, 0))
+        coded = Coded(values=[4, 4], error=0)
+        self.assertEqual((coded.pieces, coded.corrections), ([(0, (0, 4, 1))], [0, 0]))
+        flat = FlatCutting(pieces=[(0, 5)], reasons=[])
+        self.assertEqual((flat.pieces, flat.reasons), ([(0, 5)], []))
+        spans = SpanCutting(pieces=[(0, (0, 0, 1))], reasons=[])
+        self.assertEqual((spans.pieces, spans.reasons), ([(0, (0, 0, 1))], []))
 
 
 if __name__ == "__main__":

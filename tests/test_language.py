@@ -28,7 +28,7 @@ METHODS = set("""
     append clear copy count endswith extend find get index insert isalnum isalpha isdigit islower
     isspace isupper items join keys ljust lower lstrip partition pop remove replace reverse rfind
     rjust rpartition rsplit rstrip setdefault split splitlines startswith strip update upper values
-    zfill bit_length sort format
+    zfill bit_length sort format isascii
     """.split())
 WORDS = re.compile(r"\b(type|typing|enum|Enum|Flag|Generic|Protocol|ABC|NamedTuple|namedtuple|TypedDict"
                    r"|register|mro|elements|open|input|law|eval|exec|globals|locals|vars|__dict__)\b")
