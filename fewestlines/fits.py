@@ -3,15 +3,13 @@
 from math import gcd
 
 from fewestlines.bundles import LeastSlope
+from fewestlines.lines import bend
 from fewestlines.strips import longest_piece
 
 
 def three_fit(one, two, three, error):
     """Whether three points with ascending places fit for the error (point 2.1)."""
-    x, y = one
-    u, v = two
-    s, t = three
-    return abs(v * (s - x) - y * (s - u) - t * (u - x)) <= 2 * error * (s - x)
+    return bend(one, two, three) <= 2 * error * (three[0] - one[0])
 
 
 def plain_fits(points, error):

@@ -15,10 +15,10 @@ class Fitter:
         """Take the point if the points taken so far fit together with it; answer whether they do."""
         place, height = point
         vertex = (place, height, self.count)
-        deviation = self._strip.deviation_with(vertex)
-        if exceeds(deviation, self.error):
+        step = self._strip.step_with(vertex)
+        if exceeds(step[0], self.error):
             return False
-        self._strip.take(vertex, deviation)
+        self._strip.take(vertex, step)
         self.count += 1
         return True
 

@@ -32,3 +32,11 @@ def is_near(line, point, error):
 def line_fits(line, points, error):
     """Whether the line is near each of the points."""
     return all([is_near(line, point, error) for point in points])
+
+
+def bend(one, two, three):
+    """The upright distance of the middle of three points from the line through the outer two, times their run."""
+    x, y = one
+    u, v = two
+    s, t = three
+    return abs(v * (s - x) - y * (s - u) - t * (u - x))

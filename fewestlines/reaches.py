@@ -12,9 +12,9 @@ class Row:
 
     def take(self, vertex):
         """Take one more point and keep the least error with which all points taken so far fit."""
-        deviation = self._strip.deviation_with(vertex)
-        self._strip.take(vertex, deviation)
-        self.errors.append(least_error_for(deviation))
+        step = self._strip.step_with(vertex)
+        self._strip.take(vertex, step)
+        self.errors.append(least_error_for(step[0]))
 
     def length(self, error):
         """The number of first points that fit for the error."""

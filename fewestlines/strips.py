@@ -9,8 +9,8 @@ A deviation is a tuple (over, run, first, middle, last): the fraction
 over / run and the three vertices (place, height, index) that have it.
 """
 
-from fewestlines.chains import farthest, kept, put_behind
-from fewestlines.lines import reduced
+from fewestlines.chains import farthest, kept
+from fewestlines.lines import bend, reduced
 
 
 def exceeds(deviation, error):
@@ -21,6 +21,13 @@ def exceeds(deviation, error):
 def least_error_for(deviation):
     """The least integer error for which the three points of the deviation fit."""
     return -(-deviation[0] // (2 * deviation[1]))
+
+
+def deviation_of(points, one, two, three):
+    """The deviation of the points with the three ascending indexes."""
+    run = points[three][0] - points[one][0]
+    first, middle, last = [(points[index][0], points[index][1], index) for index in (one, two, three)]
+    return bend(points[one], points[two], points[three]), run, first, middle, last
 
 
 def middle_line(deviation):
@@ -46,24 +53,32 @@ class Strip:
         self._lower = []
         self._greatest = None
 
-    def deviation_with(self, vertex):
-        """The greatest deviation of the points taken so far and this vertex."""
+    def step_with(self, vertex):
+        """What it would be to take the vertex: a tuple (deviation, above, below).
+
+        That is the greatest deviation of the points taken so far and this
+        vertex, and how many vertices of the upper and the lower hull stay.
+        """
         if not self._upper:
-            return 0, 1, vertex, vertex, vertex
+            return (0, 1, vertex, vertex, vertex), 0, 0
+        above = kept(self._upper, vertex, 1)
+        below = kept(self._lower, vertex, -1)
         # A greater deviation has an edge of the new hull, the last one above
         # or the last one below, as its outer two points.
-        found = deviation_under(self._upper, self._lower, vertex, 1)
+        found = deviation_under(self._upper[above - 1], vertex, self._lower, 1)
         if found is None:
-            found = deviation_under(self._lower, self._upper, vertex, -1)
+            found = deviation_under(self._lower[below - 1], vertex, self._upper, -1)
         if found is None:
-            return self._greatest
-        return found
+            found = self._greatest
+        return found, above, below
 
-    def take(self, vertex, deviation):
-        """Take the vertex; the deviation is the one that deviation_with answers for it."""
-        put_behind(self._upper, vertex, 1)
-        put_behind(self._lower, vertex, -1)
-        self._greatest = deviation
+    def take(self, vertex, step):
+        """Take the vertex; the step is the one that step_with answers for it."""
+        self._greatest, above, below = step
+        del self._upper[above:]
+        self._upper.append(vertex)
+        del self._lower[below:]
+        self._lower.append(vertex)
 
     def line(self):
         """A line that deviates as little as possible from the points taken so far.
@@ -75,15 +90,14 @@ class Strip:
         return middle_line(self._greatest)
 
 
-def deviation_under(chain, other, vertex, side):
-    """The deviation from the new edge of a chain to the other chain, or None if it is not the greatest.
+def deviation_under(first, vertex, other, side):
+    """The deviation from the edge between two vertices to the other chain, or None if it is not the greatest.
 
     All points lie between the line of the edge and the line beside it through
     the vertex of the other chain that is farthest from it. If that vertex is
     over the edge, these three points alone need as much room, so no other
     three points deviate more.
     """
-    first = chain[kept(chain, vertex, side) - 1]
     run = vertex[0] - first[0]
     rise = vertex[1] - first[1]
     middle = farthest(other, side * rise, side * run)
@@ -104,8 +118,8 @@ def longest_piece(points, start, error):
     for index in range(start, len(points)):
         place, height = points[index]
         vertex = (place, height, index)
-        deviation = strip.deviation_with(vertex)
-        if exceeds(deviation, error):
-            return index, strip.line(), indexes_of(deviation)
-        strip.take(vertex, deviation)
+        step = strip.step_with(vertex)
+        if exceeds(step[0], error):
+            return index, strip.line(), indexes_of(step[0])
+        strip.take(vertex, step)
     return len(points), strip.line(), None

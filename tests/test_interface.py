@@ -9,8 +9,11 @@ from fewestlines.cuttings import Cutting
 from fewestlines.flat import FlatCutting
 from fewestlines.hulls import Fitter
 from fewestlines.index import Index
+from fewestlines.rooms import Plan
 from fewestlines.spans import SpanCutting
 from fewestlines.store import Store
+from fewestlines.stream import Stream
+from fewestlines.sums import Outline
 
 PACKAGE = Path(__file__).resolve().parent.parent / "fewestlines"
 
@@ -29,6 +32,11 @@ FUNCTIONS = {
     "flat": {"flat_cut": "values error", "judge_flat": "values error cutting"},
     "spans": {"three_meet": "one two three", "meets": "line span", "span_cut": "spans",
               "judge_spans": "spans cutting"},
+    "rooms": {"best_plan": "values header", "judge_plan": "values header plan",
+              "plan_room": "values header plan"},
+    "sums": {"floor_sum": "count p q d"},
+    "combine": {"added": "one other", "scaled": "pieces factor", "part_of": "pieces a b",
+                "repeated": "pieces length times"},
 }
 
 CLASSES = {
@@ -44,6 +52,11 @@ CLASSES = {
     "coded": {"Coded": {"__init__": "values error", "value_at": "index", "decoded": ""}},
     "flat": {"FlatCutting": {"__init__": "pieces reasons"}},
     "spans": {"SpanCutting": {"__init__": "pieces reasons"}},
+    "rooms": {"Plan": {"__init__": "pieces reaches prices"}},
+    "sums": {"Outline": {"__init__": "values error", "value_bounds": "index", "sum_bounds": "a b",
+                         "least_bounds": "a b", "greatest_bounds": "a b",
+                         "surely_above": "a b limit", "perhaps_above": "a b limit"}},
+    "stream": {"Stream": {"__init__": "error", "push": "value", "pieces": "", "forecast": "steps"}},
 }
 
 
@@ -88,6 +101,13 @@ class Interface(unittest.TestCase):
         self.assertEqual((flat.pieces, flat.reasons), ([(0, 5)], []))
         spans = SpanCutting(pieces=[(0, (0, 0, 1))], reasons=[])
         self.assertEqual((spans.pieces, spans.reasons), ([(0, (0, 0, 1))], []))
+        plan = Plan(pieces=[(0, 0, (0, 5, 1))], reaches=[[(1, None)]], prices=[0, 4])
+        self.assertEqual((plan.pieces, plan.reaches), ([(0, 0, (0, 5, 1))], [[(1, None)]]))
+        self.assertEqual(plan.prices, [0, 4])
+        outline = Outline(values=[4, 4], error=0)
+        self.assertEqual((outline.error, outline.length, outline.pieces), (0, 2, [(0, (0, 4, 1))]))
+        stream = Stream(error=5)
+        self.assertEqual((stream.error, stream.length), (5, 0))
 
 
 if __name__ == "__main__":
