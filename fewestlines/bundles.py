@@ -10,7 +10,7 @@ A bound is a tuple (rise, run, first, last): the fraction rise / run and the
 two vertices (place, height, index) that it is the slope between.
 """
 
-from fewestlines.chains import put_behind, steepest_from
+from fewestlines.chains import kept, steepest_from
 from fewestlines.lines import reduced
 
 
@@ -33,7 +33,8 @@ class LeastSlope:
 
     def take(self, high_end, bound):
         """Take the span with this high end; the bound is the one that bound_with answers for it."""
-        put_behind(self._chain, high_end, -1)
+        del self._chain[kept(self._chain, high_end, -1):]
+        self._chain.append(high_end)
         self.bound = bound
 
 

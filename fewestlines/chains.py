@@ -19,12 +19,6 @@ def kept(chain, vertex, side):
     return count
 
 
-def put_behind(chain, vertex, side):
-    """Change the chain to that of the hull with the vertex, which is to the right of all others."""
-    del chain[kept(chain, vertex, side):]
-    chain.append(vertex)
-
-
 def farthest(chain, rise, run):
     """The vertex of a lower chain that is the farthest below lines of slope rise / run.
 

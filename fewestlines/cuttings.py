@@ -84,12 +84,20 @@ def reason_stands(points, error, why, start, end):
 
 def least_count(points, error):
     """The least number of pieces over all cuttings into pieces that fit, by trying all cuts (point 3.5)."""
+    return fewest_parts(len(points), lambda start, end: plain_fits(points[start:end], error))
+
+
+def fewest_parts(length, stands):
+    """The least number of parts of a list of the length, by trying all cuts.
+
+    stands(start, end) tells whether the items from the start up to the end,
+    the end left out, may be a part; one item alone always may.
+    """
     least = [0]
-    for end in range(1, len(points) + 1):
-        # A last piece of one point always fits, so there is a cutting.
+    for end in range(1, length + 1):
         best = least[end - 1] + 1
         for start in range(end - 1):
-            if least[start] + 1 < best and plain_fits(points[start:end], error):
+            if least[start] + 1 < best and stands(start, end):
                 best = least[start] + 1
         least.append(best)
-    return least[len(points)]
+    return least[length]

@@ -36,11 +36,22 @@ class Store:
 
     def put(self, key, value):
         """Change the store: write a value for a key."""
-        self._write(key, value)
+        self.write(key, value)
 
     def remove(self, key):
         """Change the store: write that a key is gone, also if it is not there."""
-        self._write(key, None)
+        self.write(key, None)
+
+    def write(self, key, value):
+        """Change the store: write the entry (key, value), with None for a key that is gone."""
+        self.edits += 1
+        place = place_of(self._buffer, key)
+        if holds(self._buffer, place, key):
+            self._buffer[place] = (key, value)
+        else:
+            self._buffer.insert(place, (key, value))
+        if len(self._buffer) >= self.capacity:
+            self._flush()
 
     def get(self, key):
         """The value of a key, or None."""
@@ -77,20 +88,24 @@ class Store:
         """The number of entries in the buffer."""
         return len(self._buffer)
 
+    def buffer_entries(self):
+        """The entries of the buffer, in ascending order of keys."""
+        return list(self._buffer)
+
+    def level_entries(self):
+        """The entries of the run of each level from 0 on, in ascending order of keys; none without a run."""
+        return [[] if run is None else list(run.entries) for run in self._runs]
+
+    def restore(self, edits, moves, buffer, levels):
+        """Change the store: make it one with these numbers and entries of the buffer and of each level."""
+        self.edits = edits
+        self.moves = moves
+        self._buffer = list(buffer)
+        self._runs = [Run(entries, self.error) if entries else None for entries in levels]
+
     def _present_runs(self):
         """The runs that are there, the newest one first."""
         return [run for run in self._runs if run is not None]
-
-    def _write(self, key, value):
-        """Write an entry into the buffer, over that of the same key, and flush a full buffer."""
-        self.edits += 1
-        place = place_of(self._buffer, key)
-        if holds(self._buffer, place, key):
-            self._buffer[place] = (key, value)
-        else:
-            self._buffer.insert(place, (key, value))
-        if len(self._buffer) >= self.capacity:
-            self._flush()
 
     def _flush(self):
         """Merge the buffer with the runs up to the first level that has none (point 6.2)."""

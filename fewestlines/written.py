@@ -2,7 +2,7 @@
 
 from fewestlines.cuttings import Cutting, judge
 from fewestlines.errors import InvalidPaper
-from fewestlines.papers import numbers_in
+from fewestlines.papers import Paper
 
 # For each number of a line: whether it may have a minus.
 PIECE_SIGNS = (False, True, True, False)
@@ -22,36 +22,23 @@ def write_cutting(cutting):
 
 def read_cutting(text):
     """The cutting that a text writes; InvalidPaper if it has not the form (point 8.2)."""
-    lines = text.split("\n")
-    if lines[0] != "cutting":
-        raise InvalidPaper(1)
+    paper = Paper(text)
+    paper.numbers("cutting", ())
     pieces = []
     reasons = []
-    for number, line in enumerate(lines[1:], start=2):
-        if len(pieces) == len(reasons):
-            pieces.append(piece_in(line, number))
-        else:
-            reasons.append(reason_in(line, number))
-    if pieces and len(pieces) == len(reasons):
-        raise InvalidPaper(len(lines) + 1)
+    if not paper.ended():
+        pieces.append(piece_of(paper.numbers("piece", PIECE_SIGNS)))
+    while not paper.ended():
+        reasons.append(tuple(paper.numbers("reason", REASON_SIGNS)))
+        # Behind a reason a piece is due, also at the end of the text.
+        pieces.append(piece_of(paper.numbers("piece", PIECE_SIGNS)))
     return Cutting(pieces, reasons)
 
 
-def piece_in(line, number):
-    """The piece of a line of the text; InvalidPaper with the number of the line if there is none."""
-    numbers = numbers_in(line, "piece", PIECE_SIGNS)
-    if numbers is None:
-        raise InvalidPaper(number)
+def piece_of(numbers):
+    """The piece that has the numbers of a line."""
     start, p, q, d = numbers
     return start, (p, q, d)
-
-
-def reason_in(line, number):
-    """The reason of a line of the text; InvalidPaper with the number of the line if there is none."""
-    numbers = numbers_in(line, "reason", REASON_SIGNS)
-    if numbers is None:
-        raise InvalidPaper(number)
-    return tuple(numbers)
 
 
 def audit(points, error, text):

@@ -4,16 +4,21 @@ import ast
 import unittest
 from pathlib import Path
 
+from fewestlines.boxes import Boxes
 from fewestlines.coded import Coded
+from fewestlines.cursor import Cursor
 from fewestlines.cuttings import Cutting
 from fewestlines.flat import FlatCutting
 from fewestlines.hulls import Fitter
 from fewestlines.index import Index
+from fewestlines.journal import Durable
+from fewestlines.plain import PlainStore
 from fewestlines.rooms import Plan
 from fewestlines.spans import SpanCutting
 from fewestlines.store import Store
 from fewestlines.stream import Stream
 from fewestlines.sums import Outline
+from fewestlines.view import View
 
 PACKAGE = Path(__file__).resolve().parent.parent / "fewestlines"
 
@@ -37,6 +42,16 @@ FUNCTIONS = {
     "sums": {"floor_sum": "count p q d"},
     "combine": {"added": "one other", "scaled": "pieces factor", "part_of": "pieces a b",
                 "repeated": "pieces length times"},
+    "boxes": {"code_of": "x y bits", "cell_of": "code bits", "ranges": "box bits"},
+    "joins": {"common": "one other", "without": "one other", "together": "one other",
+              "nearest": "index x"},
+    "saved": {"write_store": "store", "read_store": "text"},
+    "journal": {"check_number": "text", "recovered": "text"},
+    "scripts": {"run_script": "text"},
+    "plantext": {"write_plan": "plan", "read_plan": "text", "audit_plan": "values header text"},
+    "plain": {"plain_rank": "stored x", "plain_flat_count": "values error",
+              "plain_span_count": "spans", "plain_room": "values header",
+              "plain_floor_sum": "count p q d", "plain_inside": "points box"},
 }
 
 CLASSES = {
@@ -57,6 +72,14 @@ CLASSES = {
                          "least_bounds": "a b", "greatest_bounds": "a b",
                          "surely_above": "a b limit", "perhaps_above": "a b limit"}},
     "stream": {"Stream": {"__init__": "error", "push": "value", "pieces": "", "forecast": "steps"}},
+    "boxes": {"Boxes": {"__init__": "points bits error", "inside": "box", "count": "box"}},
+    "view": {"View": {"__init__": "store", "get": "key", "contents": "", "changes": "later"}},
+    "cursor": {"Cursor": {"__init__": "store", "after": "key", "before": "key", "walk": "key count",
+                          "walk_back": "key count"}},
+    "journal": {"Durable": {"__init__": "capacity error", "put": "key value", "remove": "key",
+                            "sync": "", "checkpoint": "", "crash": "kept"}},
+    "plain": {"PlainStore": {"__init__": "", "put": "key value", "remove": "key", "get": "key",
+                             "contents": ""}},
 }
 
 
@@ -108,6 +131,16 @@ class Interface(unittest.TestCase):
         self.assertEqual((outline.error, outline.length, outline.pieces), (0, 2, [(0, (0, 4, 1))]))
         stream = Stream(error=5)
         self.assertEqual((stream.error, stream.length), (5, 0))
+        self.assertEqual(View(store=store).edits, 0)
+        durable = Durable(capacity=4, error=1)
+        self.assertIsInstance(durable.store, Store)
+        self.assertEqual((durable.base, durable.journal, durable.synced), ("store 4 1 0 0\nbuffer 0", "", 0))
+
+    def test_classes_without_fields_take_their_arguments(self):
+        self.assertEqual(Boxes(points=[(0, 0)], bits=0, error=2).count(box=(0, 0, 0, 0)), 1)
+        cursor = Cursor(store=Store(2, 0))
+        self.assertEqual((cursor.after(key=3), cursor.walk(key=3, count=1)), (None, []))
+        self.assertIsNone(PlainStore().get(key=1))
 
 
 if __name__ == "__main__":

@@ -34,6 +34,10 @@ WORDS = re.compile(r"\b(type|typing|enum|Enum|Flag|Generic|Protocol|ABC|NamedTup
                    r"|register|mro|elements|open|input|law|eval|exec|globals|locals|vars|__dict__)\b")
 NODES = (ast.Global, ast.AsyncFunctionDef, ast.AsyncFor, ast.AsyncWith, ast.Await, ast.Div,
          ast.MatMult)
+BARRED_ATTRIBUTES = set("""
+    items keys values pop update append clear extend insert remove reverse setdefault sort args encode
+    decode hex fromhex format
+    """.split())
 
 
 def functions_of(tree):
@@ -122,6 +126,57 @@ class Language(unittest.TestCase):
                     self.assertFalse(hasattr(builtins, node.arg), (name, node.arg))
                 if isinstance(node, ast.Call) and isinstance(node.func, ast.Attribute):
                     self.assertIn(node.func.attr, METHODS | own, name)
+
+    def test_imported_names_are_used_and_stand_for_nothing_else(self):
+        for name, tree in self.trees.items():
+            imported = {alias.name for node in tree.body if isinstance(node, ast.ImportFrom) for alias in node.names}
+            classes = {node.name for node in tree.body if isinstance(node, ast.ClassDef)}
+            used = {node.id for node in ast.walk(tree) if isinstance(node, ast.Name)}
+            self.assertLessEqual(imported, used, name)
+            for function in functions_of(tree):
+                names = {node.arg for node in ast.walk(function) if isinstance(node, ast.arg)}
+                names |= {node.id for node in ast.walk(function)
+                          if isinstance(node, ast.Name) and isinstance(node.ctx, ast.Store)}
+                self.assertFalse(names & (imported | classes), (name, function.name))
+
+    def test_values_of_modules(self):
+        for name, tree in self.trees.items():
+            for node in tree.body:
+                if isinstance(node, ast.Assign):
+                    self.assertEqual([target.id for target in node.targets], [node.targets[0].id])
+                    value = ast.literal_eval(node.value)
+                    parts = list(value.values()) if isinstance(value, dict) else value
+                    if isinstance(parts, (list, tuple)):
+                        self.assertFalse([part for part in parts if isinstance(part, (list, dict, set))], name)
+
+    def test_comparisons_and_handlers(self):
+        own = {node.name for node in self.trees["errors.py"].body if isinstance(node, ast.ClassDef)}
+        for name, tree in self.trees.items():
+            for node in ast.walk(tree):
+                if isinstance(node, ast.Compare):
+                    for sign, other in zip(node.ops, node.comparators):
+                        if isinstance(sign, (ast.Is, ast.IsNot)):
+                            self.assertIsInstance(other, ast.Constant, name)
+                            self.assertIn(other.value, (None, True, False))
+                if isinstance(node, ast.ExceptHandler):
+                    self.assertIn(node.type.id, own, name)
+                if isinstance(node, ast.Raise):
+                    self.assertIsInstance(node.exc, ast.Call, name)
+                    self.assertIn(node.exc.func.id, own, name)
+
+    def test_attributes_and_methods(self):
+        for name, tree in self.trees.items():
+            for node in tree.body:
+                if isinstance(node, ast.ClassDef):
+                    methods = {item.name for item in node.body if isinstance(item, ast.FunctionDef)}
+                    fields = {item.attr for item in ast.walk(node)
+                              if isinstance(item, ast.Attribute) and isinstance(item.ctx, ast.Store)}
+                    self.assertFalse(methods & fields, (name, node.name))
+                    self.assertFalse(fields & BARRED_ATTRIBUTES, (name, node.name))
+            for function in functions_of(tree):
+                self.assertFalse(function.decorator_list, (name, function.name))
+                if function.name != "__init__":
+                    self.assertIsNotNone(ast.get_docstring(function), (name, function.name))
 
     def test_words(self):
         for name, tree in self.trees.items():

@@ -4,6 +4,7 @@ import random
 import unittest
 
 from fewestlines.store import Store
+from edits import edit, edits_of
 from samples import BIG
 
 
@@ -122,6 +123,36 @@ class Edits(unittest.TestCase):
         self.assertEqual(store.contents(), sorted(plain.items()))
         for key in list(plain)[::3]:
             self.assertEqual((store.get(key), store.get(key + 1)), (-key, plain.get(key + 1)))
+
+    def test_large_capacities(self):
+        for capacity in (100, 1000):
+            for keys, removals in ((700, 5), (3000, 2), (BIG, 1)):
+                store, plain, model = Store(capacity, 2), {}, Model(capacity)
+                flushes = 0
+                for made, (key, value) in enumerate(edits_of(keys % 1000, 5000, keys, removals), 1):
+                    edit(store, key, value)
+                    plain[key] = value
+                    model.write(key, value)
+                    self.assertEqual((store.moves, store.edits, store.buffered()),
+                                     (model.moves, made, len(model.buffer)))
+                    self.assertLessEqual(store.moves, made * made.bit_length())
+                    self.assertEqual(store.get(key), value)
+                    if made % 250 == 1 or not model.buffer and made > 1000:
+                        flushes += not model.buffer
+                        self.compare(store, plain, model, made)
+                self.assertGreater(flushes, 0)
+
+    def compare(self, store, plain, model, made):
+        """Compare a store with what it must hold after so many edits."""
+        pairs = sorted((key, value) for key, value in plain.items() if value is not None)
+        self.assertEqual(store.contents(), pairs)
+        self.assertEqual(store.run_sizes(), model.sizes())
+        self.assertLessEqual(len([size for size in store.run_sizes() if size]), made.bit_length())
+        for key in list(plain)[::max(1, len(plain) // 40)]:
+            self.assertEqual((store.get(key), store.get(key + 1)), (plain[key], plain.get(key + 1)))
+        middle = pairs[len(pairs) // 3:2 * len(pairs) // 3 + 1]
+        if middle:
+            self.assertEqual(store.between(middle[0][0], middle[-1][0]), middle)
 
 
 class Rules(unittest.TestCase):
