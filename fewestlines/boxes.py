@@ -23,16 +23,10 @@ def cell_of(code, bits):
 
 
 def within_square(box, bits):
-    """The part of a box that lies within the square."""
+    """The part of a box that lies within the square; it may have no cells."""
     left, right, low, high = box
     last = (1 << bits) - 1
     return max(left, 0), min(right, last), max(low, 0), min(high, last)
-
-
-def has_cells(box):
-    """Whether there is a cell in the box."""
-    left, right, low, high = box
-    return left <= right and low <= high
 
 
 def ranges(box, bits):
@@ -50,7 +44,7 @@ def whole_blocks(box, bits):
     found = []
     side = 1 << bits
     # Blocks of cells with successive codes, that with the least ones last.
-    waiting = [(0, 0, 0, side, side)] if has_cells(box) else []
+    waiting = [(0, 0, 0, side, side)]
     while waiting:
         block = waiting.pop()
         overlap = overlap_of(block, box)
@@ -95,8 +89,6 @@ class Boxes:
     def inside(self, box):
         """The points in the box, in ascending order of their codes."""
         left, right, low, high = within_square(box, self._bits)
-        if not has_cells((left, right, low, high)):
-            return []
         # No cell of the box has a code below that of its first corner or above that of its last one.
         first = self._index.rank(code_of(left, low, self._bits) - 1)
         end = self._index.rank(code_of(right, high, self._bits))

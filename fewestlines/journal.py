@@ -63,11 +63,11 @@ class Durable:
         self._write((key, None))
 
     def sync(self):
-        """Make the whole journal safe."""
+        """Change what is safe: the whole journal now."""
         self.synced = len(self.journal)
 
     def checkpoint(self):
-        """Make the written form of the store the base, and begin an empty journal."""
+        """Change the base to the written form of the store, and begin an empty journal."""
         self.base = write_store(self.store)
         self._begin_journal()
 

@@ -2,9 +2,9 @@
 
 import unittest
 
-from fewestlines.errors import InvalidPaper
 from fewestlines.plantext import audit_plan, read_plan, write_plan
 from fewestlines.rooms import Plan, best_plan, judge_plan, plan_room
+from papers import WrongTexts
 from samples import BIG, value_lists, with_item
 
 # For the header 5 three pieces of width 0 are best.
@@ -96,15 +96,9 @@ class Reading(unittest.TestCase):
         self.assertEqual(audit_plan(values, 20, text), plan.prices[-1])
 
 
-class WrongTexts(unittest.TestCase):
-    def check(self, text, line):
-        with self.assertRaises(InvalidPaper) as caught:
-            read_plan(text)
-        self.assertEqual(caught.exception.line, line, text)
-
-    def check_line(self, number, line):
-        """Put the line in place of that of the text, where it is the first one that is wrong."""
-        self.check("\n".join(with_item(TEXT.split("\n"), number - 1, line)), number)
+class WrongPlans(WrongTexts, unittest.TestCase):
+    RIGHT = TEXT
+    read = staticmethod(read_plan)
 
     def test_the_first_line(self):
         for line in ("", "Plan", "plans", " plan", "plan ", "plan 0", "cutting", "piece 0 0 0 0 1", "plan\t"):

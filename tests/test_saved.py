@@ -2,10 +2,10 @@
 
 import unittest
 
-from fewestlines.errors import InvalidPaper
 from fewestlines.saved import read_store, write_store
 from fewestlines.store import Store
 from edits import edit, edits_of, edits_of_large_numbers, state, store_after
+from papers import WrongTexts
 from samples import BIG, with_item
 
 # A buffer, a run at the level 0, none at 1, one at 2, entries of removed keys above it and in the buffer.
@@ -128,15 +128,9 @@ class Reading(unittest.TestCase):
         self.assertEqual(store.moves, 9 + 62)
 
 
-class WrongTexts(unittest.TestCase):
-    def check(self, text, line):
-        with self.assertRaises(InvalidPaper) as caught:
-            read_store(text)
-        self.assertEqual(caught.exception.line, line, text)
-
-    def check_line(self, number, line):
-        """Put the line in place of that of the text, where it is the first one that is wrong."""
-        self.check("\n".join(with_item(lines_of(TEXT), number - 1, line)), number)
+class WrongStores(WrongTexts, unittest.TestCase):
+    RIGHT = TEXT
+    read = staticmethod(read_store)
 
     def test_words_too_few_too_many_and_others(self):
         for number, right in enumerate(lines_of(TEXT), start=1):

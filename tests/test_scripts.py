@@ -3,10 +3,10 @@
 import unittest
 from unittest import mock
 
-from fewestlines.errors import InvalidPaper
 from fewestlines.scripts import run_script
 from fewestlines.store import Store
 from edits import edits_of, edits_of_large_numbers, pairs_after, store_after
+from papers import WrongTexts
 from samples import BIG, with_item
 
 TEXT = "\n".join(["store 2 1", "put 5 50", "put -3 -30", "get 5", "remove 5", "get 5", "between -9 9", "count", "sizes",
@@ -79,15 +79,9 @@ class Answers(unittest.TestCase):
         self.assertEqual([run_script("store 2 0\nput 1 1\ncount"), run_script("store 2 0\ncount")], [["1"], ["0"]])
 
 
-class WrongScripts(unittest.TestCase):
-    def check(self, text, line):
-        with self.assertRaises(InvalidPaper) as caught:
-            run_script(text)
-        self.assertEqual(caught.exception.line, line, text)
-
-    def check_line(self, number, line):
-        """Put the line in place of that of the text, where it is the first one that is wrong."""
-        self.check("\n".join(with_item(TEXT.split("\n"), number - 1, line)), number)
+class WrongScripts(WrongTexts, unittest.TestCase):
+    RIGHT = TEXT
+    read = staticmethod(run_script)
 
     def test_the_first_line(self):
         for line in ("", "store", "store 2", "store 2 1 1", "Store 2 1", "put 1 1", "count", "store 2 -1", "store -2 1",

@@ -209,6 +209,31 @@ class Rules(unittest.TestCase):
             self.assertEqual(sizes, [0, 4])
             sizes.clear()
 
+    def test_entries_of_the_buffer_and_of_the_levels(self):
+        store = Store(2, 0)
+        self.assertEqual((store.buffer_entries(), store.level_entries()), ([], []))
+        for key in (1, 2, 3, 4, 5):
+            store.put(key, 10 * key)
+        store.write(4, None)
+        store.write(6, 60)
+        for _ in range(2):
+            buffer, levels = store.buffer_entries(), store.level_entries()
+            self.assertEqual(buffer, [(6, 60)])
+            self.assertEqual(levels, [[(4, None), (5, 50)], [(1, 10), (2, 20), (3, 30), (4, 40)]])
+            buffer.clear()
+            levels[1].clear()
+            levels.clear()
+
+    def test_restoring(self):
+        store = Store(3, 0)
+        buffer, levels = [(9, None)], [[], [(1, 1), (9, 9)]]
+        store.restore(7, 12, buffer, levels)
+        buffer.clear()
+        levels[1].clear()
+        levels.clear()
+        self.assertEqual((store.edits, store.moves, store.contents()), (7, 12, [(1, 1)]))
+        self.assertEqual((store.buffered(), store.run_sizes()), (1, [0, 2]))
+
     def test_questions_change_nothing(self):
         store = Store(2, 0)
         for key in (1, 2, 3):

@@ -3,8 +3,8 @@
 import unittest
 
 from fewestlines.cuttings import Cutting, cut, judge
-from fewestlines.errors import InvalidPaper
 from fewestlines.written import audit, read_cutting, write_cutting
+from papers import WrongTexts
 from samples import BIG, errors_for, point_lists, with_item
 
 POINTS = [(0, 0), (1, 1), (2, 2), (3, 10), (4, 12), (5, 14), (6, 0), (7, 0)]
@@ -40,15 +40,9 @@ class Writing(unittest.TestCase):
         self.assertEqual((cutting.pieces, cutting.reasons), (PIECES, REASONS))
 
 
-class Reading(unittest.TestCase):
-    def check(self, text, line):
-        with self.assertRaises(InvalidPaper) as caught:
-            read_cutting(text)
-        self.assertEqual(caught.exception.line, line, text)
-
-    def check_line(self, number, line):
-        """Put the line in place of that of the text, where it is the first one that is wrong."""
-        self.check("\n".join(with_item(TEXT.split("\n"), number - 1, line)), number)
+class Reading(WrongTexts, unittest.TestCase):
+    RIGHT = TEXT
+    read = staticmethod(read_cutting)
 
     def test_what_was_written(self):
         several = 0
